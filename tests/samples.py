@@ -1,0 +1,22 @@
+"""Values of any kind, and tables, for the tests."""
+
+from rowclash.errors import NotRow, RowError
+from rowclash.outcomes import Outcome
+from rowclash.tables import Table
+
+MOST = 10 ** 30 - 1
+
+NO_INTEGERS = (
+    True, False, None, "", "1", "a\nb", b"", b"1", (), (1,), (1, 2), [], [1], {}, {1: 2}, [[1], (2,)],
+    Table(), Table((1, 2)), Outcome((), (), ()), RowError("1"), NotRow(),
+)
+NO_KEYS = NO_INTEGERS + (MOST + 1, -MOST - 1, 10 ** 59, -10 ** 59)
+NO_PAIRS = (
+    1, True, None, "12", b"12", [1, 2], {1: 2, 2: 3}, (), (1,), (1, 2, 3), ((1, 2),), [(1, 2)],
+    Table((1, 2)), Outcome((), (), ()),
+) + tuple((1, thing) for thing in NO_KEYS) + tuple((thing, 1) for thing in NO_KEYS)
+
+
+def line_of_rows(many, start=1):
+    """So many pairs, the first with the key `start`, each waiting for the next one."""
+    return tuple((key, key + 1) for key in range(start, start + many))

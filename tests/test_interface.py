@@ -1,0 +1,52 @@
+"""The names and arguments that the document's interface lists, each in its file."""
+
+import importlib
+import inspect
+import unittest
+
+# file: class: its methods, operators and properties
+CLASSES = {
+    "tables": {
+        "Table": (
+            "rows", "shifted", "__init__", "__getitem__", "__setitem__", "__contains__", "__len__", "__eq__",
+            "__repr__", "__add__", "__iadd__", "__sub__",
+        ),
+    },
+    "outcomes": {
+        "Outcome": (
+            "rows", "stop", "ends", "moved", "left", "held", "__getitem__", "__len__", "__eq__", "__lt__",
+            "__le__", "__gt__", "__ge__", "__repr__",
+        ),
+    },
+}
+PROPERTIES = {"Table": ("rows",), "Outcome": ("rows", "stop", "ends", "moved", "left", "held")}
+
+
+class Interface(unittest.TestCase):
+    def test_classes_are_defined_in_their_files_with_methods_of_their_own(self):
+        for file, classes in CLASSES.items():
+            module = importlib.import_module(f"rowclash.{file}")
+            for name, parts in classes.items():
+                kind = getattr(module, name)
+                self.assertEqual(kind.__module__, f"rowclash.{file}")
+                for part in parts:
+                    with self.subTest(name=name, part=part):
+                        self.assertIn(part, vars(kind))
+                for part in PROPERTIES[name]:
+                    self.assertIsInstance(vars(kind)[part], property)
+
+    def test_arguments(self):
+        tables = importlib.import_module("rowclash.tables")
+        self.assertEqual(str(inspect.signature(tables.Table)), "(*rows)")
+        self.assertEqual(str(inspect.signature(tables.Table.shifted)), "(keys, by)")
+
+    def test_objects_are_not_iterated_over(self):
+        tables = importlib.import_module("rowclash.tables")
+        outcomes = importlib.import_module("rowclash.outcomes")
+        for thing in (tables.Table((1, 2)), outcomes.Outcome(((1, 2),), (), ((1, 2),))):
+            with self.assertRaises(TypeError):
+                iter(thing)
+
+
+if __name__ == "__main__":
+    unittest.main()
