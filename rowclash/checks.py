@@ -1,4 +1,4 @@
-"""What counts as an integer, a key, a small integer, a tuple of keys, a set of rows.
+"""What counts as an integer, a key, a small integer, a tuple of keys, a set of rows, an order.
 
 Each function takes any value and returns a bool.
 """
@@ -32,8 +32,21 @@ def are_different_keys(thing):
     return len(set(thing)) == len(thing)
 
 
+def are_rows(table, thing):
+    """Whether it is a tuple of keys of rows of the table, in any order, also with some of them repeated."""
+    return isinstance(thing, tuple) and all([part in table for part in thing])
+
+
+def is_ascending(things):
+    """Whether each item of the tuple is greater than the one before it."""
+    return all([one < other for one, other in zip(things, things[1:])])
+
+
 def is_set_of_rows(table, thing):
     """Whether it is an ascending tuple of keys of rows of the table."""
-    if not isinstance(thing, tuple) or not all([part in table for part in thing]):
-        return False
-    return all([one < other for one, other in zip(thing, thing[1:])])
+    return are_rows(table, thing) and is_ascending(thing)
+
+
+def is_order(table, thing):
+    """Whether it is a tuple that has each key of the table once."""
+    return are_rows(table, thing) and len(thing) == len(table) and len(set(thing)) == len(thing)

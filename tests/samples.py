@@ -2,19 +2,29 @@
 
 from rowclash.errors import NotRow, RowError
 from rowclash.outcomes import Outcome
+from rowclash.rules import Abort, Replace
 from rowclash.tables import Table
 
 MOST = 10 ** 30 - 1
 
 NO_INTEGERS = (
     True, False, None, "", "1", "a\nb", b"", b"1", (), (1,), (1, 2), [], [1], {}, {1: 2}, [[1], (2,)],
-    Table(), Table((1, 2)), Outcome((), (), ()), RowError("1"), NotRow(),
+    Table(), Table((1, 2)), Outcome((), (), ()), Abort(), RowError("1"), NotRow(),
 )
 NO_KEYS = NO_INTEGERS + (MOST + 1, -MOST - 1, 10 ** 59, -10 ** 59)
 NO_PAIRS = (
     1, True, None, "12", b"12", [1, 2], {1: 2, 2: 3}, (), (1,), (1, 2, 3), ((1, 2),), [(1, 2)],
     Table((1, 2)), Outcome((), (), ()),
 ) + tuple((1, thing) for thing in NO_KEYS) + tuple((thing, 1) for thing in NO_KEYS)
+NO_TABLES = tuple(thing for thing in NO_KEYS if not isinstance(thing, Table)) + (
+    0, 1, "Table()", "1>2", ((1, 2),), ((1, 2), (2, 3)), [(1, 2)], {1: 2, 2: 3}, Outcome(((1, 2),), (), ((1, 2),)),
+)
+# Values of all kinds, for what says a bool of any value.
+ANYTHING = NO_KEYS + NO_PAIRS + NO_TABLES + (
+    "abort", "order", "ring", "compete", "x" * 3000, b"\x00" * 1000, Replace(), [[[[[[[[1]]]]]]]],
+    ((((((((1,),),),),),),),), {"order": (1, 2)}, {(1, 2): [Table((1, 2))]}, (Table((1, 2)), Abort()),
+    tuple(range(1999)), [0] * 1999, (("order", None),), ("order",) * 2, ((), ()), ((), (), ()),
+)
 
 
 def line_of_rows(many, start=1):

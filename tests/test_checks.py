@@ -1,6 +1,8 @@
 import unittest
 
-from rowclash.checks import are_different_keys, is_integer, is_key, is_pair, is_set_of_rows, is_small
+from rowclash.checks import (
+    are_different_keys, are_rows, is_ascending, is_integer, is_key, is_order, is_pair, is_set_of_rows, is_small,
+)
 from rowclash.tables import Table
 from samples import MOST, NO_INTEGERS, NO_KEYS, NO_PAIRS
 
@@ -47,6 +49,29 @@ class Checks(unittest.TestCase):
         for thing in NO_KEYS:
             self.assertIs(is_set_of_rows(table, (0, thing)), False, thing)
             self.assertIs(is_set_of_rows(table, (thing, 2)), False, thing)
+
+    def test_rows_in_any_order(self):
+        table = Table((0, 5), (1, 5), (2, 9))
+        for thing in ((), (0,), (2, 1), (1, 1), (2, 0, 1, 2, 0)):
+            self.assertIs(are_rows(table, thing), True, thing)
+        for thing in (None, 1, "", b"", [], [0, 1], {0: 1}, (5,), (0, 9), ((0,),), table):
+            self.assertIs(are_rows(table, thing), False, thing)
+        for thing in NO_KEYS:
+            self.assertIs(are_rows(table, (0, thing)), False, thing)
+
+    def test_ascending(self):
+        for thing in ((), (3,), (-2, -1, 5), ((1,), (1, 2), (2,))):
+            self.assertIs(is_ascending(thing), True, thing)
+        for thing in ((1, 1), (2, 1), (1, 3, 2), ((1, 2), (1,)), ((1, 2), (1, 2))):
+            self.assertIs(is_ascending(thing), False, thing)
+
+    def test_orders(self):
+        table = Table((0, 5), (1, 5), (2, 9))
+        for thing in ((0, 1, 2), (2, 0, 1), (2, 1, 0)):
+            self.assertIs(is_order(table, thing), True, thing)
+        for thing in ((), (0, 1), (0, 1, 1), (0, 1, 2, 2), (0, 1, 9), [0, 1, 2], "012", None, (False, 1, 2), table):
+            self.assertIs(is_order(table, thing), False, thing)
+        self.assertIs(is_order(Table(), ()), True)
 
 
 if __name__ == "__main__":

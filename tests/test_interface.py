@@ -18,8 +18,25 @@ CLASSES = {
             "__le__", "__gt__", "__ge__", "__repr__",
         ),
     },
+    "rules": {
+        "Rule": ("named", "__call__", "__eq__", "__repr__"),
+        "Stops": (), "Continues": (), "Undoes": (), "Leaves": (), "Removes": (),
+        "Abort": ("WORD",), "Fail": ("WORD",), "Ignore": ("WORD",), "Replace": ("WORD",),
+    },
 }
 PROPERTIES = {"Table": ("rows",), "Outcome": ("rows", "stop", "ends", "moved", "left", "held")}
+# file: function: its arguments
+FUNCTIONS = {
+    "waits": {"path": "(table, key)", "rings": "(table)", "groups": "(table)", "trees": "(table)"},
+    "passing": {
+        "verdict": "(table)", "shows_verdict": "(table, thing)", "passing_orders": "(table)",
+        "each_passing": "(table)", "fits_at_end": "(table)", "stages": "(table)",
+    },
+    "parking": {
+        "enough": "(table, rows, *, always=False)", "fewest_parked": "(table, *, always=False)",
+        "needs": "(table, *, always=False)", "shows_needs": "(table, thing, *, always=False)",
+    },
+}
 
 
 class Interface(unittest.TestCase):
@@ -32,11 +49,24 @@ class Interface(unittest.TestCase):
                 for part in parts:
                     with self.subTest(name=name, part=part):
                         self.assertIn(part, vars(kind))
-                for part in PROPERTIES[name]:
+                for part in PROPERTIES.get(name, ()):
                     self.assertIsInstance(vars(kind)[part], property)
 
-    def test_arguments(self):
+    def test_functions_are_defined_in_their_files_with_their_arguments(self):
+        for file, functions in FUNCTIONS.items():
+            module = importlib.import_module(f"rowclash.{file}")
+            for name, arguments in functions.items():
+                with self.subTest(name=name):
+                    function = getattr(module, name)
+                    self.assertEqual(function.__module__, f"rowclash.{file}")
+                    self.assertEqual(str(inspect.signature(function)), arguments)
+
+    def test_arguments_of_methods(self):
         tables = importlib.import_module("rowclash.tables")
+        rules = importlib.import_module("rowclash.rules")
+        self.assertEqual(str(inspect.signature(rules.Abort())), "(table, order)")
+        self.assertEqual(str(inspect.signature(rules.Rule.named)), "(word)")
+        self.assertIsInstance(vars(rules.Rule)["named"], staticmethod)
         self.assertEqual(str(inspect.signature(tables.Table)), "(*rows)")
         self.assertEqual(str(inspect.signature(tables.Table.shifted)), "(keys, by)")
 

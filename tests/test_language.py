@@ -135,6 +135,37 @@ class Language(unittest.TestCase):
             found = [part.lineno for part in ast.walk(node) if isinstance(part, ast.AugAssign)]
             self.assertEqual(found, [], path)
 
+    def test_no_method_and_no_attribute_has_the_name_of_a_property(self):
+        methods = [part for _, node in nodes(ast.ClassDef) for part in node.body if isinstance(part, ast.FunctionDef)]
+        properties = {
+            part.name for part in methods if [ast.unparse(told) for told in part.decorator_list] == ["property"]
+        }
+        self.assertIn("rows", properties)
+        for part in methods:
+            if not part.decorator_list:
+                self.assertNotIn(part.name, properties)
+        for path, node in nodes(ast.Attribute):
+            if isinstance(node.ctx, ast.Store):
+                self.assertNotIn(node.attr, properties, (path, node.lineno))
+
+    def test_objects_are_called_by_a_name(self):
+        for path, node in nodes(ast.Call):
+            self.assertNotIsInstance(node.func, ast.Call, (path, node.lineno))
+
+    def test_no_import_leads_back(self):
+        imported = {}
+        for path, node in nodes(ast.ImportFrom):
+            if node.module not in LIBRARY:
+                imported.setdefault(path.stem, set()).add(node.module.rpartition(".")[2])
+        for start in imported:
+            reached, todo = set(), list(imported[start])
+            while todo:
+                file = todo.pop()
+                if file not in reached:
+                    reached.add(file)
+                    todo.extend(imported.get(file, ()))
+            self.assertNotIn(start, reached)
+
 
 if __name__ == "__main__":
     unittest.main()

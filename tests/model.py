@@ -1,0 +1,92 @@
+"""The document's words, carried out plainly: to compare the program with, on tables that are small enough."""
+
+from itertools import combinations, permutations, product
+from random import Random
+
+WORDS = ("abort", "fail", "ignore", "replace")
+
+
+def execute(rows, order, word):
+    """Visit the rows one by one: (stop, ends), as an outcome has them."""
+    wanted = dict(rows)
+    holding = {row: row for row in wanted}
+    for row in order:
+        if row not in holding or holding[row] == wanted[row]:
+            continue
+        holders = [other for other in holding if other != row and holding[other] == wanted[row]]
+        if not holders:
+            holding[row] = wanted[row]
+        elif word == "abort":
+            return (row, holders[0]), tuple((row, row) for row in sorted(wanted))
+        elif word == "fail":
+            return (row, holders[0]), tuple(sorted(holding.items()))
+        elif word == "replace":
+            del holding[holders[0]]
+            holding[row] = wanted[row]
+    return (), tuple(sorted(holding.items()))
+
+
+def keys_of(rows):
+    return tuple(sorted(key for key, _ in rows))
+
+
+def path_of(rows, key):
+    """The path of a row and how it ends."""
+    wanted = dict(rows)
+    waits = {row: new for row, new in rows if new in wanted and new != row}
+    steps = [key]
+    while steps[-1] in waits and waits[steps[-1]] not in steps:
+        steps.append(waits[steps[-1]])
+    last = steps[-1]
+    end = "free" if wanted[last] not in wanted else "still" if wanted[last] == last else "ring"
+    return tuple(steps), end
+
+
+def passing(rows):
+    """All orders in which no conflict happens, in ascending order."""
+    return [order for order in permutations(keys_of(rows)) if execute(rows, order, "abort")[0] == ()]
+
+
+def competing_pairs(rows):
+    return [(one, other) for one, other in combinations(keys_of(rows), 2) if dict(rows)[one] == dict(rows)[other]]
+
+
+def all_rings(rows):
+    """All rings, by trying all tuples of different rows."""
+    wanted = dict(rows)
+    found = []
+    for many in range(2, len(rows) + 1):
+        for ring in permutations(keys_of(rows), many):
+            if ring[0] == min(ring) and all(wanted[x] == y for x, y in zip(ring, ring[1:] + ring[:1])):
+                found.append(ring)
+    return sorted(found)
+
+
+def small_tables(many, step=1):
+    """The rows of each step-th table of so many rows, which want each other's keys or one of two free ones."""
+    for at, new_keys in enumerate(product([*range(1, many + 1), 0, 9], repeat=many)):
+        if at % step == 0:
+            yield tuple(zip(range(1, many + 1), new_keys))
+
+
+def all_small_tables(most):
+    for many in range(most + 1):
+        yield from small_tables(many)
+
+
+def large_tables(many, seed):
+    """The rows of so many tables of 40 rows with conflicts of all kinds, always the same ones."""
+    chance = Random(seed)
+    for _ in range(many):
+        keys = chance.sample(range(-50, 50), 40)
+        yield tuple(sorted((key, chance.choice([*keys, *range(50, 60)])) for key in keys))
+
+
+def from_parts(chains=(), rings=(), still=()):
+    """Rows that wait for each other in chains, which end free, and in rings, and rows that are still."""
+    rows = [(key, key) for key in still]
+    for at, chain in enumerate(chains):
+        rows += zip(chain, (*chain[1:], 1000 + at))
+    for ring in rings:
+        rows += zip(ring, (*ring[1:], ring[0]))
+    return tuple(sorted(rows))
