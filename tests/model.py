@@ -1,6 +1,8 @@
 """The document's words, carried out plainly: to compare the program with, on tables that are small enough."""
 
-from itertools import combinations, permutations, product
+from collections import Counter
+from functools import lru_cache
+from itertools import chain, combinations, permutations, product
 from random import Random
 
 WORDS = ("abort", "fail", "ignore", "replace")
@@ -28,6 +30,73 @@ def execute(rows, order, word):
 
 def keys_of(rows):
     return tuple(sorted(key for key, _ in rows))
+
+
+def sets_of_rows(rows):
+    """All sets of rows, the smaller ones first."""
+    keys = keys_of(rows)
+    return list(chain.from_iterable(combinations(keys, many) for many in range(len(keys) + 1)))
+
+
+def moved_in(rows, ends):
+    """The rows that hold their new key at the end, but not their first one."""
+    wanted = dict(rows)
+    return tuple(row for row, key in ends if key == wanted[row] != row)
+
+
+def moving_with_replace(rows, order):
+    """The rows that move with Replace, also if they are removed later."""
+    wanted = dict(rows)
+    holding = {row: row for row in wanted}
+    moved = []
+    for row in order:
+        if row in holding and holding[row] != wanted[row]:
+            for other in list(holding):
+                if holding[other] == wanted[row]:
+                    del holding[other]
+            holding[row] = wanted[row]
+            moved.append(row)
+    return moved
+
+
+class Results:
+    """What all orders of a table come to."""
+
+    def __init__(self, rows):
+        self.orders = list(permutations(keys_of(rows)))
+        # In how many orders just these rows move with Ignore, or each row does.
+        self.ignored, self.ignoring = Counter(), Counter()
+        # In how many orders just these rows are left with Replace, or each row is, or moves.
+        self.left, self.leaving, self.moving = Counter(), Counter(), Counter()
+        # The tuples of keys that are held at the end with Replace.
+        self.held = set()
+        # With Fail: the rows that have moved, and the row at which the statement stops.
+        self.stopped = set()
+        for order in self.orders:
+            self.add(rows, order)
+
+    def add(self, rows, order):
+        moved = moved_in(rows, execute(rows, order, "ignore")[1])
+        self.ignored[moved] += 1
+        self.ignoring.update(moved)
+        ends = execute(rows, order, "replace")[1]
+        left = tuple(row for row, _ in ends)
+        self.left[left] += 1
+        self.leaving.update(left)
+        self.held.add(tuple(sorted(key for _, key in ends)))
+        self.moving.update(moving_with_replace(rows, order))
+        stop, ends = execute(rows, order, "fail")
+        if stop:
+            self.stopped.add((moved_in(rows, ends), stop[0]))
+
+    def fate(self, many):
+        """Of something that happens in so many orders."""
+        return "always" if many == len(self.orders) else "sometimes" if many else "never"
+
+
+@lru_cache(maxsize=None)
+def results(rows):
+    return Results(rows)
 
 
 def path_of(rows, key):
@@ -72,6 +141,21 @@ def small_tables(many, step=1):
 def all_small_tables(most):
     for many in range(most + 1):
         yield from small_tables(many)
+
+
+def tables_to_go_through():
+    """The rows of the tables of which all orders are gone through."""
+    return [*all_small_tables(4), *small_tables(5, 41), *ringed_tables()]
+
+
+def ringed_tables():
+    """Tables of five and six rows with rings, rows that lead into them, and rows that want keys of them."""
+    for news in (
+        (2, 3, 4, 5, 1), (2, 3, 4, 5, 6, 1), (2, 3, 1, 5, 4, 9), (2, 3, 1, 5, 6, 4), (2, 3, 4, 5, 1, 1),
+        (2, 3, 4, 1, 1, 5), (2, 1, 4, 3, 6, 5), (2, 1, 1, 3, 4, 5), (2, 3, 1, 1, 2, 3), (2, 3, 1, 3, 9, 9),
+        (2, 3, 1, 4, 4, 5), (2, 1, 2, 4, 4, 4), (2, 1, 4, 4, 3, 5), (2, 3, 4, 1, 2, 5),
+    ):
+        yield tuple(enumerate(news, start=1))
 
 
 def large_tables(many, seed):

@@ -19,6 +19,11 @@ NO_PAIRS = (
 NO_TABLES = tuple(thing for thing in NO_KEYS if not isinstance(thing, Table)) + (
     0, 1, "Table()", "1>2", ((1, 2),), ((1, 2), (2, 3)), [(1, 2)], {1: 2, 2: 3}, Outcome(((1, 2),), (), ((1, 2),)),
 )
+# What is no set of rows, and no row, of a table with the rows 1 and 2.
+NO_SETS_OF_ROWS = tuple(thing for thing in NO_INTEGERS if thing not in ((), (1,), (1, 2))) + (
+    1, [1], [1, 2], (2, 1), (1, 1), (1, 1, 2), (9,), (5,), {1: 2}, "1", ((1, 2),), (1, 2, 9), (1, 2, 3), (0, 1),
+) + tuple((1, thing) for thing in NO_KEYS) + tuple((thing,) for thing in NO_KEYS)
+NO_ROWS = NO_KEYS + (0, 3, 9, -1, MOST, (1,), [2], "2", 12)
 # Values of all kinds, for what says a bool of any value.
 ANYTHING = NO_KEYS + NO_PAIRS + NO_TABLES + (
     "abort", "order", "ring", "compete", "x" * 3000, b"\x00" * 1000, Replace(), [[[[[[[[1]]]]]]]],

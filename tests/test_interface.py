@@ -36,6 +36,22 @@ FUNCTIONS = {
         "enough": "(table, rows, *, always=False)", "fewest_parked": "(table, *, always=False)",
         "needs": "(table, *, always=False)", "shows_needs": "(table, thing, *, always=False)",
     },
+    "ignoring": {
+        "is_possible": "(table, rows)", "order_moving": "(table, rows)", "count_possible": "(table)",
+        "each_possible": "(table)", "most_moved": "(table)", "fewest_moved": "(table)", "move_fate": "(table, key)",
+    },
+    "replacing": {
+        "can_be_left": "(table, rows)", "order_leaving": "(table, rows)", "left_fate": "(table, key)",
+        "can_be_held": "(table, keys)", "count_held": "(table)", "each_held": "(table)", "most_left": "(table)",
+        "fewest_left": "(table)", "shows_fewest": "(table, thing)",
+    },
+    "counting": {
+        "ignoring_moves": "(table, key)", "ignoring_exactly": "(table, rows)",
+        "replacing_moves": "(table, key)", "replacing_leaves": "(table, key)",
+    },
+    "failing": {
+        "can_stop": "(table, rows, key)", "order_stopping": "(table, rows, key)", "stops": "(table)",
+    },
 }
 
 

@@ -1,12 +1,14 @@
 import unittest
 
-from itertools import chain, combinations, permutations
+from itertools import permutations
 
-from model import all_rings, all_small_tables, competing_pairs, execute, from_parts, keys_of, passing, small_tables
+from model import (
+    all_rings, all_small_tables, competing_pairs, execute, from_parts, keys_of, passing, sets_of_rows, small_tables,
+)
 from rowclash.errors import Competing, NotRows, NotTable
 from rowclash.parking import enough, fewest_parked, needs, shows_needs
 from rowclash.tables import Table
-from samples import ANYTHING, NO_INTEGERS, NO_KEYS, NO_TABLES, line_of_rows
+from samples import ANYTHING, NO_SETS_OF_ROWS, NO_TABLES, line_of_rows
 
 FORTY_IN_CHAINS = from_parts([range(40, 55), range(9, 0, -1), (30, 35, 31)], (), range(10, 23))
 FORTY_IN_RINGS = from_parts((), [range(8), (20, 10, 15), (30, 33, 32, 31, 35), (40, 41)], range(50, 72))
@@ -15,11 +17,6 @@ LARGE = (
     FORTY_IN_CHAINS, FORTY_IN_RINGS, FORTY_IN_ALL, line_of_rows(40), tuple(zip(range(40), [*range(1, 40), 0])),
     tuple(zip(range(39), [*range(1, 39), 0])) + ((39, 39),), tuple((key, key) for key in range(40)),
 )
-
-
-def sets_of_rows(rows):
-    keys = keys_of(rows)
-    return list(chain.from_iterable(combinations(keys, many) for many in range(len(keys) + 1)))
 
 
 def is_enough(rows, parked, always):
@@ -303,11 +300,8 @@ class WrongArguments(unittest.TestCase):
                     call()
 
     def test_no_set_of_rows(self):
-        wrong = [thing for thing in NO_INTEGERS if thing != () and thing != (1,) and thing != (1, 2)]
-        wrong += [1, [1], (2, 1), (1, 1), (1, 1, 2), (9,), (5,), {1: 2}, "1", ((1, 2),), (1, 2, 9)]
-        wrong += [(1, thing) for thing in NO_KEYS] + [(thing,) for thing in NO_KEYS]
         for table in (Table((1, 2), (2, 9)), Table((1, 9), (2, 9))):
-            for rows in wrong:
+            for rows in NO_SETS_OF_ROWS:
                 for always in (False, True):
                     with self.subTest(rows=rows), self.assertRaises(NotRows):
                         enough(table, rows, always=always)
