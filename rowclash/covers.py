@@ -36,6 +36,7 @@ def count_covers(table):
         many = many * (inside[key] + outside[key])
     for key, new in table.rows:
         if key == new:
+            # The key of a still row is always held.
             many = many * inside[key]
     closed = closed_rings(table)
     for ring in rings(table):
@@ -54,10 +55,10 @@ def count_below(table):
     wanted = wanted_keys(table)
     inside = {key: 1 for key in wanted}
     outside = {key: 1 for key in wanted}
-    for key, new in table.rows:
-        # A key that nobody wants is never held, and that of a still row always is.
+    for key, _ in table.rows:
+        # A key that nobody wants is never held.
         inside.setdefault(key, 0)
-        outside[key] = 0 if key == new else 1
+        outside[key] = 1
     ringed = [row for ring in rings(table) for row in ring]
     for row in farthest_first(table):
         new = table[row]
@@ -107,5 +108,5 @@ def needed_without(table, key):
 
 
 def fills_ring(closed, keys, key):
-    """Whether a closed ring has all its keys among these, and this one is the last of them."""
-    return any([all([part in keys or part == key for part in ring]) for ring in closed if key in ring])
+    """Whether a closed ring would have all its keys among these with this one."""
+    return any([all([part in keys or part == key for part in ring]) for ring in closed])

@@ -29,24 +29,14 @@ def pieces_of(rows):
 
 
 def next_piece(rows):
-    """A piece that some smallest cover of the rows meets in no more keys than it must."""
-    touching = count_touching(rows)
-    for key, new in rows:
-        # One of the keys is of no use to another row, so the other one covers all that they can.
-        if touching[key] == 1 or touching[new] == 1:
+    """A piece that some smallest cover of the rows has no more keys of than it must."""
+    for key, _ in rows:
+        # If no other row wants its key, then its new key covers all that its key could, and more.
+        if not any([new == key for row, new in rows if row != key]):
             return (key,)
-    # Now all rows are in rings that no other row leads into.
+    # Now as many keys are wanted as there are rows, each by one row: all rows are in rings.
     ring = first_ring(rows)
     return ring if len(ring) % 2 == 1 else ring[:1]
-
-
-def count_touching(rows):
-    """A dict from each key to the number of rows that have it as their key or new key."""
-    touching = {}
-    for row in rows:
-        for key in sorted(set(row)):
-            touching[key] = touching.get(key, 0) + 1
-    return touching
 
 
 def first_ring(rows):

@@ -44,6 +44,18 @@ def moved_in(rows, ends):
     return tuple(row for row, key in ends if key == wanted[row] != row)
 
 
+def statement_of(keys, times, plus, scan, low, high):
+    """The rows of a statement, and the order in which it visits them."""
+    inside = [key for key in sorted(keys) if (low is None or key >= low) and (high is None or key <= high)]
+    wanted = {key: times * key + plus if key in inside else key for key in sorted(keys)}
+    places = {
+        "up": lambda key: key, "down": lambda key: -key,
+        "far": lambda key: (-abs(wanted[key] - key), key), "near": lambda key: (abs(wanted[key] - key), key),
+    }
+    outside = [key for key in sorted(keys) if key not in inside]
+    return tuple(wanted.items()), tuple(sorted(inside, key=places[scan]) + outside)
+
+
 def moving_with_replace(rows, order):
     """The rows that move with Replace, also if they are removed later."""
     wanted = dict(rows)

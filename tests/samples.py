@@ -3,6 +3,8 @@
 from rowclash.errors import NotRow, RowError
 from rowclash.outcomes import Outcome
 from rowclash.rules import Abort, Replace
+from rowclash.scans import Formula
+from rowclash.sessions import Session
 from rowclash.tables import Table
 
 MOST = 10 ** 30 - 1
@@ -10,6 +12,7 @@ MOST = 10 ** 30 - 1
 NO_INTEGERS = (
     True, False, None, "", "1", "a\nb", b"", b"1", (), (1,), (1, 2), [], [1], {}, {1: 2}, [[1], (2,)],
     Table(), Table((1, 2)), Outcome((), (), ()), Abort(), RowError("1"), NotRow(),
+    Session(), Session(1),
 )
 NO_KEYS = NO_INTEGERS + (MOST + 1, -MOST - 1, 10 ** 59, -10 ** 59)
 NO_PAIRS = (
@@ -18,6 +21,7 @@ NO_PAIRS = (
 ) + tuple((1, thing) for thing in NO_KEYS) + tuple((thing, 1) for thing in NO_KEYS)
 NO_TABLES = tuple(thing for thing in NO_KEYS if not isinstance(thing, Table)) + (
     0, 1, "Table()", "1>2", ((1, 2),), ((1, 2), (2, 3)), [(1, 2)], {1: 2, 2: 3}, Outcome(((1, 2),), (), ((1, 2),)),
+    Formula(),
 )
 # What is no set of rows, and no row, of a table with the rows 1 and 2.
 NO_SETS_OF_ROWS = tuple(thing for thing in NO_INTEGERS if thing not in ((), (1,), (1, 2))) + (
@@ -29,6 +33,7 @@ ANYTHING = NO_KEYS + NO_PAIRS + NO_TABLES + (
     "abort", "order", "ring", "compete", "x" * 3000, b"\x00" * 1000, Replace(), [[[[[[[[1]]]]]]]],
     ((((((((1,),),),),),),),), {"order": (1, 2)}, {(1, 2): [Table((1, 2))]}, (Table((1, 2)), Abort()),
     tuple(range(1999)), [0] * 1999, (("order", None),), ("order",) * 2, ((), ()), ((), (), ()),
+    Formula(), Formula(7, 8), Session(1, 2, rule=Replace()), (Formula(),), [Session(1)],
 )
 
 

@@ -23,8 +23,24 @@ CLASSES = {
         "Stops": (), "Continues": (), "Undoes": (), "Leaves": (), "Removes": (),
         "Abort": ("WORD",), "Fail": ("WORD",), "Ignore": ("WORD",), "Replace": ("WORD",),
     },
+    "scans": {
+        "Formula": (
+            "times", "plus", "__init__", "__call__", "__add__", "__radd__", "__sub__", "__rsub__", "__mul__",
+            "__rmul__", "__neg__", "__pow__", "__eq__", "__repr__",
+        ),
+    },
+    "sessions": {
+        "Session": (
+            "stored", "rule", "obey", "put", "drop", "change", "undo", "attempt", "twin", "__init__", "__len__",
+            "__contains__", "__eq__", "__repr__",
+        ),
+    },
+    "desk": {"Desk": ("__init__", "say")},
 }
-PROPERTIES = {"Table": ("rows",), "Outcome": ("rows", "stop", "ends", "moved", "left", "held")}
+PROPERTIES = {
+    "Table": ("rows",), "Outcome": ("rows", "stop", "ends", "moved", "left", "held"),
+    "Formula": ("times", "plus"), "Session": ("stored", "rule"),
+}
 # file: function: its arguments
 FUNCTIONS = {
     "waits": {"path": "(table, key)", "rings": "(table)", "groups": "(table)", "trees": "(table)"},
@@ -51,6 +67,13 @@ FUNCTIONS = {
     },
     "failing": {
         "can_stop": "(table, rows, key)", "order_stopping": "(table, rows, key)", "stops": "(table)",
+    },
+    "scans": {
+        "statement": "(keys, formula, *, scan='up', low=None, high=None)",
+        "clash": "(formula, *, scan='up', low=None, high=None)", "safe_scans": "(formula, *, low=None, high=None)",
+    },
+    "texts": {
+        "table_text": "(table)", "read_table": "(text)", "key_bytes": "(key)", "bytes_key": "(data)",
     },
 }
 
@@ -85,6 +108,18 @@ class Interface(unittest.TestCase):
         self.assertIsInstance(vars(rules.Rule)["named"], staticmethod)
         self.assertEqual(str(inspect.signature(tables.Table)), "(*rows)")
         self.assertEqual(str(inspect.signature(tables.Table.shifted)), "(keys, by)")
+        scans = importlib.import_module("rowclash.scans")
+        self.assertEqual(str(inspect.signature(scans.Formula)), "(times=1, plus=0)")
+        self.assertEqual(str(inspect.signature(scans.Formula())), "(key)")
+        session = importlib.import_module("rowclash.sessions").Session
+        self.assertEqual(str(inspect.signature(session)), "(*keys, rule=None)")
+        for name, arguments in (
+            ("obey", "(rule)"), ("put", "(*keys)"), ("drop", "(*keys)"), ("undo", "()"), ("attempt", "(*deeds)"),
+            ("change", "(formula, *, scan='up', low=None, high=None)"), ("twin", "()"),
+        ):
+            self.assertEqual(str(inspect.signature(getattr(session(), name))), arguments)
+        desk = importlib.import_module("rowclash.desk").Desk
+        self.assertEqual((str(inspect.signature(desk)), str(inspect.signature(desk().say))), ("()", "(line)"))
 
     def test_objects_are_not_iterated_over(self):
         tables = importlib.import_module("rowclash.tables")

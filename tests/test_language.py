@@ -87,14 +87,14 @@ class Language(unittest.TestCase):
                     self.assertNotIn("*", names)
 
     def test_builtins(self):
-        every = set(dir(builtins))
+        every = set(dir(builtins)) - {"_"}
         bound = {name for _, name in bound_names()}
         for path, node in nodes(ast.Name):
             if node.id in every and node.id not in bound:
                 self.assertIn(node.id, BUILTINS, path)
 
     def test_no_name_is_that_of_a_builtin(self):
-        every = set(dir(builtins))
+        every = set(dir(builtins)) - {"_"}
         for path, name in bound_names():
             self.assertNotIn(name, every, path)
 
@@ -147,6 +147,24 @@ class Language(unittest.TestCase):
         for path, node in nodes(ast.Attribute):
             if isinstance(node.ctx, ast.Store):
                 self.assertNotIn(node.attr, properties, (path, node.lineno))
+
+    def test_remainders_are_taken_of_what_is_plainly_a_number(self):
+        # The package makes bytes and has operators.
+        for path, node in nodes(ast.BinOp):
+            if isinstance(node.op, ast.Mod):
+                self.assertRegex(ast.unparse(node.left), r"^(len|int)\(|^\d+$", path)
+            if isinstance(node.op, ast.Pow):
+                self.assertIsInstance(node.right, ast.Constant, path)
+
+    def test_no_attribute_is_called_keys(self):
+        # Table has __getitem__.
+        for path, node in nodes(ast.Attribute):
+            self.assertNotEqual(node.attr, "keys", (path, node.lineno))
+
+    def test_nothing_but_the_names_of_the_library_is_imported_where_objects_are_iterated_over(self):
+        # Table and Outcome have __iter__ and __len__: no product, combinations or permutations.
+        for path, node in nodes(ast.ImportFrom):
+            self.assertNotEqual(node.module, "itertools", path)
 
     def test_objects_are_called_by_a_name(self):
         for path, node in nodes(ast.Call):
