@@ -112,7 +112,7 @@ class Formulas(unittest.TestCase):
                 lambda: formula + thing, lambda: formula - thing, lambda: formula * thing,
                 lambda: thing + formula, lambda: thing - formula, lambda: thing * formula,
             ):
-                # A table and an outcome on the left side answer for themselves.
+                # A table on the left side of + or - answers for itself.
                 wrong = (NotFormula, NotRow, NotRows) if isinstance(thing, Table) else NotFormula
                 with self.subTest(thing=thing), self.assertRaises(wrong):
                     call()
