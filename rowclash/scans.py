@@ -2,7 +2,6 @@
 
 from rowclash.checks import are_different_keys, is_integer, is_key, is_small
 from rowclash.errors import NotBound, NotFormula, NotInteger, NotKey, NotKeys, NotScan, TooLarge, TooMany
-from rowclash.runs import Run
 from rowclash.tables import MOST_ROWS, Table
 
 SCANS = ("up", "down", "far", "near")
@@ -10,6 +9,8 @@ MOST_TIMES = 60
 # Far away where there is no bound: it is greater than the sums of small integers
 # that it is compared with.
 FARTHEST = 2 ** 54
+# Multiplied with each other, or with some left out, they give every power of two up to 2 ** 63.
+STEPS = (2 ** 32, 2 ** 16, 2 ** 8, 2 ** 4, 2 ** 2, 2)
 
 
 class Formula:
@@ -158,36 +159,66 @@ def clash(formula, *, scan="up", low=None, high=None):
     check_formula(formula)
     check_scan(scan)
     check_bounds(low, high)
-    # Two rows meet a conflict if one of them wants the key of the other; rows that
-    # want one key do so, too, but then also with the row at this key. Signs of
-    # linear functions of the key of a row say whether it meets one with the row at
-    # its new key: so if any row does, then a row at one of the ends.
-    for key in trial_keys(low, high):
-        pair = tuple(sorted((key, new_key(formula, key))))
-        if pair[0] != pair[1] and meets_conflict(pair, formula, scan, low, high):
-            return pair
+    if not is_safe(formula, scan, low, high):
+        for key in trial_keys(formula, scan, low, high):
+            if meets_conflict(key, formula, scan, low, high):
+                return tuple(sorted((key, new_key(formula, key))))
     return None
 
 
-def trial_keys(low, high):
-    """Keys from low to high, those near 0 first: also both ends, and keys far away where there is no bound."""
-    powers = [1]
-    while powers[-1] < FARTHEST:
-        powers.append(powers[-1] * 2)
-    numbers = [0] + powers + [-power for power in powers] + [bound for bound in (low, high) if bound is not None]
+def is_safe(formula, scan, low, high, far=FARTHEST):
+    """Whether no row at a key from -far to far meets a conflict in such a statement, whatever keys there are."""
+    first = -far if low is None or low < -far else low
+    last = far if high is None or high > far else high
+    if first > last:
+        return True
+    # Two rows meet a conflict if one of them wants the key of the other; rows that
+    # want one key do so, too, but then also with the row at this key. Signs of
+    # linear functions of the key of a row say whether it meets one with the row at
+    # its new key, and the keys of those that meet none lie side by side: so if any
+    # row meets one, then a row at one of the ends does.
+    return not (
+        meets_conflict(first, formula, scan, low, high) or meets_conflict(last, formula, scan, low, high)
+    )
+
+
+def meets_conflict(key, formula, scan, low, high):
+    """Whether the row at a key from low to high meets a conflict with a row at its new key."""
+    new = new_key(formula, key)
+    if new == key:
+        return False
+    # The other row is still if it is outside of the bounds or times is 0, and with
+    # times -1 it wants the key of this one. Otherwise its new key is neither of the
+    # two keys, so that it moves out of the way if it is visited first.
+    if formula.times in (0, -1) or not is_within(new, low, high):
+        return True
+    return not is_visited_before(new, key, formula, scan)
+
+
+def is_visited_before(new, key, formula, scan):
+    """Whether the row at the new key of a row is visited before it; both are within the bounds."""
+    if scan == "down":
+        return new > key
+    # The row at the new key is abs(times) times as far from its own new key as the
+    # other row is, and times is not 0. Equal distances are visited in ascending order.
+    if scan == "up" or abs(formula.times) == 1:
+        return new < key
+    return scan == "far"
+
+
+def trial_keys(formula, scan, low, high):
+    """Keys from low to high, those near 0 first, so that some row at one of them meets a conflict if any row does."""
+    safe = 1
+    for step in STEPS:
+        if is_safe(formula, scan, low, high, safe * step):
+            safe = safe * step
+    # Twice as far from 0 some row meets a conflict, and so one at an end of the keys up to there.
+    numbers = [0, 1, -1, 2 * safe, -2 * safe] + [bound for bound in (low, high) if bound is not None]
     return sorted([number for number in numbers if is_within(number, low, high)], key=abs)
-
-
-def meets_conflict(keys, formula, scan, low, high):
-    """Whether the statement of these keys meets a conflict."""
-    rows = changed_rows(keys, formula, low, high)
-    run = Run(rows)
-    for key in visited_rows(rows, scan, low, high):
-        if run.visit(key) is not None:
-            return True
-    return False
 
 
 def safe_scans(formula, *, low=None, high=None):
     """The scans with which such a statement never meets a conflict, whatever the keys are."""
-    return tuple([scan for scan in SCANS if clash(formula, scan=scan, low=low, high=high) is None])
+    check_formula(formula)
+    check_bounds(low, high)
+    return tuple([scan for scan in SCANS if is_safe(formula, scan, low, high)])

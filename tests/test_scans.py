@@ -1,3 +1,4 @@
+import time
 import unittest
 
 from itertools import combinations, product
@@ -254,6 +255,18 @@ def collide(pair, times, plus, scan, low, high):
     return execute(rows, order, "fail")[0] != ()
 
 
+def first_clash(times, plus, scan, low, high):
+    """The pair of the first row that collides with one at its new key: 0, powers of two and the bounds are tried."""
+    powers = [2 ** many for many in range(55)]
+    numbers = [0, *powers, *(-power for power in powers), *(bound for bound in (low, high) if bound is not None)]
+    for key in sorted(numbers, key=abs):
+        pair = tuple(sorted({key, times * key + plus}))
+        if (low is None or low <= key) and (high is None or key <= high) and len(pair) == 2:
+            if collide(pair, times, plus, scan, low, high):
+                return pair
+    return None
+
+
 class Clashes(unittest.TestCase):
     """Promise 102."""
 
@@ -345,6 +358,52 @@ class Clashes(unittest.TestCase):
             self.assertEqual(
                 found, tuple(scan for scan in SCANS if clash(formula, scan=scan, low=low, high=high) is None),
             )
+
+    def assert_first_clashes(self, times, plus, low, high):
+        formula = Formula(times, plus)
+        pairs = [first_clash(times, plus, scan, low, high) for scan in SCANS]
+        found = [clash(formula, scan=scan, low=low, high=high) for scan in SCANS]
+        self.assertEqual(found, pairs, (times, plus, low, high))
+        safe = tuple(scan for scan, pair in zip(SCANS, pairs) if pair is None)
+        self.assertEqual(safe_scans(formula, low=low, high=high), safe, (times, plus, low, high))
+
+    def test_each_pair_is_the_nearest_that_is_found_by_trying(self):
+        # Any pair that collides will do; these are small ones, where there are such.
+        bounds = (None, *range(-4, 5))
+        for times, plus, low, high in product(range(-2, 4), (-5, -3, 0, 2, 4), bounds, bounds):
+            self.assert_first_clashes(times, plus, low, high)
+
+    def test_each_pair_is_the_nearest_with_great_numbers(self):
+        chance = Random(13)
+
+        def number():
+            size = chance.choice((2, 9, 100, 2 ** 20, 2 ** 33, 2 ** 48, SMALL))
+            return chance.choice((0, 1, -1, size, -size, size - 1, 1 - size, chance.randrange(-size, size + 1)))
+
+        for _ in range(1500):
+            times, plus, low, high = number(), number(), *(chance.choice((None, number())) for _ in range(2))
+            if times != 1 and chance.randrange(3) == 0:
+                low = max(-SMALL, min(SMALL, -plus // (times - 1) + chance.randrange(-1, 2)))
+            if low is not None and chance.randrange(3) == 0:
+                high = chance.choice((low, -low, min(SMALL, low + 1)))
+            self.assert_first_clashes(times, plus, low, high)
+
+    def test_a_thousand_answers_take_less_than_a_tenth_of_a_second(self):
+        for times, plus, low, high in (
+            (1, 0, None, None), (1, 1, None, None), (3, -4, None, None), (-3, 7, None, None), (2, 5, 9, None),
+            (1, 5, -SMALL, SMALL), (2, -SMALL, None, None), (SMALL, SMALL, None, SMALL), (0, 7, 7, 7), (2, 5, 9, 3),
+        ):
+            formula = Formula(times, plus)
+            calls = [lambda: safe_scans(formula, low=low, high=high)]
+            calls += [lambda scan=scan: clash(formula, scan=scan, low=low, high=high) for scan in SCANS]
+            for call in calls:
+                self.assertLess(min(self.time_of(call) for _ in range(3)), 0.1, (times, plus, low, high))
+
+    def time_of(self, call):
+        begun = time.process_time()
+        for _ in range(1000):
+            call()
+        return time.process_time() - begun
 
     def test_by_name(self):
         self.assertIsNone(clash(formula=Formula(1, 1), scan="down", high=None, low=3))
